@@ -191,6 +191,15 @@ func TestWide(t *testing.T) {
 	}
 }
 
+// TestCycle has a component that contains itself.
+func TestCycle(t *testing.T) {
+	kids := make([]tree.Tree, 1)
+	kids[0] = of("A", nil, kids...)
+	if s, e := tree.Print(kids[0]); tree.Formed(kids[0]) || s != "" || e != api.ErrArg {
+		t.Error(s, e)
+	}
+}
+
 // P11.1: Formed
 
 func TestFormedOrdinary(t *testing.T) {
